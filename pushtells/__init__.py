@@ -1,0 +1,1 @@
+"""Pushtells: what tightening sum by sum can tell."""

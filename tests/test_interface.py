@@ -1,0 +1,162 @@
+"""The interface: names, arguments, files; and what [1] and [2] say of all of them."""
+
+import ast
+import copy
+import importlib
+import inspect
+import os
+import random
+import unittest
+
+from pushtells.boxes import Box
+from pushtells.errors import PushError
+from pushtells.webs import Web
+from tests.helpers import JUNK, MIXED, PIPES, TRIANGLE, filled_box, raised, random_web
+
+INTERFACE = {
+    "webs": {"Web": "points ties", "point_ties": "web point", "tie_kind": "web tie", "turned": "web points",
+             "struck": "web ties", "part_of": "web points", "side_by_side": "one other", "way_ends": "web way",
+             "row_sign": "web row", "components": "web", "ring_count": "web", "parity_paper": "web point",
+             "parity_holds": "web point value"},
+    "boxes": {"Box": "web bounds totals", "is_within": "web one other", "cut_box": "web box tie least greatest",
+              "turned_box": "web box points", "moved_box": "web box tie by", "box_times": "web box many",
+              "box_widths": "web box"},
+    "signs": {"pull": "web signs tie", "sign_pulls": "web signs", "shortage": "web box signs",
+              "signs_show": "web box value", "hanging_parts": "web signs"},
+    "blocks": {"blocks": "web", "block_kind": "web block", "block_paper": "web block",
+               "block_holds": "web block value"},
+    "pieces": {"court1": "web", "court1_paper": "web", "court1_holds": "web value", "bad_paper": "web",
+               "bad_holds": "web value", "even_rings": "web", "most_ties": "points", "full_paper": "web",
+               "full_holds": "web value"},
+    "tighten": {"left_at": "web box point", "looked_at": "web box point", "looked_along": "web box points",
+                "is_still": "web box", "tightened": "web box", "round_box": "web box", "rounds": "web box",
+                "sweep_row": "web", "sweep_holds": "web value"},
+    "endings": {"bound_paper": "web box tie side", "bound_holds": "web box tie side value",
+                "nothing_paper": "web box", "nothing_holds": "web box value", "end_paper": "web box",
+                "end_holds": "web box value"},
+}
+
+
+def told(module, name):
+    return getattr(importlib.import_module("pushtells." + module), name)
+
+
+def arguments(names, rng):
+    """Fitting arguments, sequences as tuples and as lists, by the names of the parameters."""
+    web = random_web(rng, rng.randint(2, 4), rng.randint(1, 4))
+    box = filled_box(rng, web, 3)
+    lot = tuple(rng.sample(range(web.points), rng.randint(1, web.points)))
+    fit = {"points": lot, "ties": (0,), "web": web, "box": box, "point": rng.randrange(web.points), "tie": 0,
+           "one": web, "other": web, "way": (0,), "row": (), "value": ("odd", (0, 1)), "least": -1, "greatest": 2,
+           "by": 3, "many": 2, "bounds": box.bounds, "totals": box.totals, "signs": (1,) * web.points, "side": -1,
+           "block": (0,)}
+    if names == ["points", "ties"]:
+        fit.update(points=web.points, ties=web.ties)
+    if names == ["points"]:
+        fit["points"] = 3
+    if "box" not in names and names[:2] == ["web", "one"]:
+        fit.update(one=box, other=filled_box(rng, web, 3))
+    lists = {name: listed(thing) if name != "value" else thing for name, thing in fit.items()}
+    return [{name: kind[name] for name in names} for kind in (fit, lists)]
+
+
+def listed(thing):
+    return [listed(part) for part in thing] if isinstance(thing, tuple) else thing
+
+
+def result(call, *args, **more):
+    try:
+        return plain(call(*args, **more))
+    except PushError as error:
+        return type(error), vars(error)
+
+
+def plain(thing):
+    """What tells results apart, objects by their attributes."""
+    if isinstance(thing, tuple):
+        return tuple(plain(part) for part in thing)
+    return (type(thing), vars(thing)) if isinstance(thing, (Web, Box)) else (type(thing), thing)
+
+
+def is_told(thing):
+    """Whether it is of tuples, integers, bools, strings, None, Webs and Boxes throughout."""
+    if isinstance(thing, tuple):
+        return all(is_told(part) for part in thing)
+    return thing is None or type(thing) in (int, bool, str, Web, Box)
+
+
+class InterfaceTest(unittest.TestCase):
+    def test_names_arguments_and_files(self):
+        for module, names in INTERFACE.items():
+            with open(importlib.import_module("pushtells." + module).__file__) as file:
+                tree = ast.parse(file.read())
+            here = [node.name for node in tree.body if isinstance(node, (ast.FunctionDef, ast.ClassDef))]
+            for name, parameters in names.items():
+                self.assertIn(name, here)
+                self.assertEqual(list(inspect.signature(told(module, name)).parameters), parameters.split(), name)
+
+    def test_equality_is_defined_in_the_classes_themselves(self):
+        for kind in (Web, Box):
+            self.assertIn("__eq__", vars(kind))
+
+    def test_calls_alike(self):
+        """By position, by names, as lists: the same; nothing changes; what is told is of tuples."""
+        rng = random.Random(5)
+        for module, names in INTERFACE.items():
+            for name, parameters in names.items():
+                for _ in range(12):
+                    fit, lists = arguments(parameters.split(), rng)
+                    before = copy.deepcopy((fit, lists))
+                    answers = [result(told(module, name), *kind.values()) for kind in (fit, lists)]
+                    answers += [result(told(module, name), **kind) for kind in (fit, lists)]
+                    for answer in answers:
+                        self.assertEqual(answer, answers[0], name)
+                    self.assertEqual([plain(tuple(kind.values())) for kind in (fit, lists)],
+                                     [plain(tuple(kind.values())) for kind in before], name)
+                    answer = raised(told(module, name), *fit.values())
+                    self.assertTrue(is_told(answer) or issubclass(answer[0], PushError), name)
+
+    def test_objects_are_not_iterable_and_have_no_length(self):
+        for thing in (PIPES, Box(PIPES, [(0, 1)] * 3, (0, 0))):
+            self.assertRaises(TypeError, iter, thing)
+            self.assertRaises(TypeError, len, thing)
+            self.assertRaises(TypeError, list, thing)
+
+    def test_any_value_in_place_of_any_argument(self):
+        """Where an error is told for it, a wrong value raises one of this package, judges answer True or False."""
+        free = {"moved_box": "by"}
+        for module, names in INTERFACE.items():
+            for name, parameters in names.items():
+                for web in (TRIANGLE, MIXED):
+                    self.check_any(module, name, parameters.split(), web, free.get(name))
+
+    def check_any(self, module, name, parameters, web, free):
+        fit, _ = arguments(parameters, random.Random(1))
+        for place in parameters:
+            if place == free:
+                continue
+            for value in JUNK:
+                given = dict(fit, **{place: value})
+                if place == "value":
+                    box = filled_box(random.Random(2), web, 3)
+                    fitting = {"web": web, "box": box, "point": 0, "tie": 0, "side": 1, "block": (1,)}
+                    given = {part: fitting.get(part, value) for part in parameters}
+                    try:
+                        self.assertIn(told(module, name)(**given), (True, False))
+                    except PushError as error:
+                        self.assertIn(type(error).__name__, ("InvalidBlock", "Refused"))
+                    continue
+                try:
+                    told(module, name)(**given)
+                except PushError:
+                    pass
+
+    def test_the_package_is_plain_files(self):
+        folder = os.path.dirname(importlib.import_module("pushtells").__file__)
+        files = sorted(name for name in os.listdir(folder) if name != "__pycache__")
+        self.assertTrue(all(name.endswith(".py") for name in files), files)
+        self.assertIn("__init__.py", files)
+
+
+if __name__ == "__main__":
+    unittest.main()
