@@ -56,7 +56,10 @@ def chain_ties(ties, links):
 
 
 def closes(ties, parts, begin):
-    """Whether the links lead on from a point through unlike points, and back to it."""
+    """Whether the links lead on from a point through unlike points, and back to it.
+
+    That no tie is told twice is for the caller to see, who knows which ties are due.
+    """
     point = begin
     passed = []
     for ways in parts:
@@ -67,8 +70,7 @@ def closes(ties, parts, begin):
         passed.append(point)
         for along in alongs:
             passed.extend(along[1:-1])
-    numbers = joined(joined(parts))
-    return point == begin and len(set(passed)) == len(passed) and len(set(numbers)) == len(numbers)
+    return point == begin and len(set(passed)) == len(passed)
 
 
 def along_from(ties, way, begin):

@@ -141,6 +141,64 @@ class KindsTest(unittest.TestCase):
             links = (("tie", 4), ("tie", 3), ("bead", way[::-1], (2,)))
             self.assertIs(block_holds(web, block, ("chain", links)), holds)
 
+    def test_chains_need_a_bead(self):
+        self.assertIs(block_holds(TRIANGLE, (0, 1, 2), ("chain", (("tie", 0), ("tie", 1), ("tie", 2)))), False)
+        two = Web(2, [(0, 1, 1, 1)] * 2)
+        self.assertIs(block_holds(two, (0, 1), ("chain", (("tie", 0), ("tie", 1)))), False)
+        bow = Web(2, [(0, 1, 1, 1), (0, 1, 1, -1)])
+        self.assertIs(block_holds(bow, (0, 1), ("chain", (("bead", (0,), (1,)),))), False)
+
+    def check_false(self, web, paper):
+        """A paper of all ties of a web that is one block, but no such paper."""
+        block = tuple(range(len(web.ties)))
+        self.assertEqual(blocks(web), (block,))
+        self.assertNotIn(strict(paper), [strict(told) for told in papers_of(web, block)])
+        self.assertIs(block_holds(web, block, paper), False)
+
+    def test_even_beads(self):
+        web = Web(2, [(0, 1, 1, 1), (0, 1, 1, 1), (0, 1, 1, -1)])
+        self.check_false(web, ("chain", (("bead", (0,), (1,)), ("tie", 2))))
+        self.check_false(PIPES, ("chain", (("bead", (0,), (1,)), ("tie", 2))))
+
+    def test_ways_of_a_bead_to_two_points(self):
+        web = Web(3, [(0, 1, 1, -1), (0, 1, 2, 1), (1, 1, 2, 1), (2, 1, 0, -1)])
+        self.check_false(web, ("chain", (("bead", (0,), (1,)), ("tie", 2), ("tie", 3))))
+
+    def test_chains_through_a_point_twice(self):
+        five = Web(2, [(0, 1, 1, 1), (0, 1, 1, -1)] * 2 + [(0, 1, 1, 1)])
+        links = (("bead", (0,), (1,)), ("tie", 2), ("tie", 3), ("tie", 4))
+        self.check_false(five, ("chain", links))
+        shared = Web(3, [(0, 1, 1, -1), (1, 1, 2, -1), (0, 1, 1, 1), (1, 1, 2, -1), (2, 1, 0, 1)])
+        self.check_false(shared, ("chain", (("bead", (0, 1), (2, 3)), ("tie", 4))))
+        self.check_false(shared, ("chain", (("bead", (2, 1), (0, 3)), ("tie", 4))))
+        longer = Web(5, [(0, 1, 1, -1), (1, 1, 2, -1), (2, 1, 3, -1), (0, 1, 4, 1), (4, 1, 2, 1), (2, 1, 3, 1),
+                         (3, 1, 0, 1)])
+        self.check_false(longer, ("chain", (("bead", (0, 1, 2), (3, 4, 5)), ("tie", 6))))
+
+    def test_chains_that_do_not_close(self):
+        web = Web(2, [(0, 1, 1, 1), (0, 1, 1, -1), (0, 1, 1, 1)])
+        self.assertIs(block_holds(web, (0, 1, 2), ("chain", (("bead", (0,), (1,)), ("tie", 2)))), True)
+        self.assertIs(block_holds(web, (0, 1, 2), ("chain", (("bead", (0,), (1,)), ("tie", 0)))), False)
+
+    def test_false_fours(self):
+        pairs = [(a, b) for a in range(4) for b in range(a + 1, 4)]
+        even = Web(4, [(a, 1, b, -1) for a, b in pairs])
+        self.check_false(even, ("four", (0, 1, 2, 3), tuple((at,) for at in range(6))))
+        crossing = Web(5, [(0, 1, 4, 1), (4, 1, 1, -1), (0, 1, 2, 1), (0, 1, 3, 1), (1, 1, 2, 1), (1, 1, 3, 1),
+                           (2, 1, 4, 1), (4, 1, 3, -1)])
+        ways = ((0, 1), (2,), (3,), (4,), (5,), (6, 7))
+        self.check_false(crossing, ("four", (0, 1, 2, 3), ways))
+        doubled = Web(4, [(a, 1, b, 1) for a, b in pairs + [(0, 1)]])
+        self.assertEqual(block_kind(doubled, range_list(7)), "bad")
+        self.check_false(doubled, ("four", (0, 1, 2, 3), tuple((at,) for at in range(6))))
+
+    def test_bad_papers_of_another_block(self):
+        web = Web(4, [(0, 1, 1, -1)] * 3 + [(2, 1, 3, -1)] * 3)
+        for block, ties, signs in (((0, 1, 2), (0, 1, 2), (1, 1, 0, 0)), ((3, 4, 5), (3, 4, 5), (0, 0, 1, 1))):
+            self.assertIs(block_holds(web, block, ("bad", ties, signs)), True)
+            self.assertIs(block_holds(web, block, ("bad", ties, tuple(-sign for sign in signs))), True)
+        self.assertIs(block_holds(web, (0, 1, 2), ("bad", (3, 4, 5), (0, 0, 1, 1))), False)
+
     def test_any_values(self):
         for web in trusted_webs(18) + [PIPES, MIXED]:
             for block in blocks(web):

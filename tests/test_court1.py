@@ -112,7 +112,8 @@ class Court1Test(unittest.TestCase):
             for call in (court1, court1_paper, bad_paper):
                 self.assertEqual(raised(call, web), error(InvalidWeb, at=-1))
             for call in (court1_holds, bad_holds):
-                self.assertEqual(raised(call, web, None), error(InvalidWeb, at=-1))
+                for value in JUNK:
+                    self.assertEqual(raised(call, web, value), error(InvalidWeb, at=-1))
 
 
 class PapersTest(unittest.TestCase):
@@ -158,6 +159,14 @@ class PapersTest(unittest.TestCase):
         self.assertIs(court1_holds(two, ("yes", [(("tie", 0),), (("tie", 1),)])), False)
         self.assertIs(court1_holds(two, ("yes", ((("tie", 0),), [("tie", 1)]))), False)
         self.assertIs(court1_holds(two, ("yes", ((("tie", False),), (("tie", True),)))), False)
+
+    def test_yes_papers_across_blocks(self):
+        """A bead and a tie that only hang on one another are no chain, however many points they have."""
+        web = Web(3, [(0, 1, 1, 1), (0, 1, 1, -1), (1, 1, 2, 1)])
+        self.assertIs(court1_holds(web, ("yes", ((("odd", (0, 1)), ("tie", 2)),))), True)
+        self.assertIs(court1_holds(web, ("yes", ((("chain", (("bead", (0,), (1,)), ("tie", 2))),),))), False)
+        self.assertIs(court1_holds(web, ("yes", ((("chain", (("tie", 2), ("bead", (0,), (1,)))),),))), False)
+        self.assertIs(court1_holds(web, ("yes", ((("odd", (0, 1)), ("tie", 2), ("tie", 2)),))), False)
 
     def test_two_cores_are_no_yes(self):
         web = handcuffs(0)
@@ -245,6 +254,45 @@ class BadTest(unittest.TestCase):
         self.assertIs(bad_holds(web, ("ways", ways + ((2,),))), False)
         self.assertIs(bad_holds(web, ("ways", ((2,), (2,), (0, 1)))), False)
         self.assertIs(bad_holds(web, ("ways", list(ways))), False)
+
+    def test_ways_that_are_not_apart(self):
+        web = Web(4, [(0, 1, 3, -1), (3, 1, 1, -1), (0, 1, 3, -1), (3, 1, 1, -1), (0, 1, 1, -1), (0, 1, 2, -1),
+                      (2, 1, 1, -1)])
+        for ways, holds in ((((0, 1), (4,), (5, 6)), True), (((2, 1), (4,), (5, 6)), True),
+                            (((0, 1), (2, 3), (4,)), False), (((0, 1), (2, 1), (4,)), False),
+                            (((4,), (4,), (0, 1)), False), (((0,), (2,), (4,)), False), (((0,), (2,), (5, 6)), False),
+                            (((5,), (4,), (0, 1)), False), (((0, 1), (5, 6)), False)):
+            self.assertIs(bad_holds(web, ("ways", ways)), holds, ways)
+        long = Web(5, [(0, 1, 2, -1), (2, 1, 1, -1), (0, 1, 3, -1), (3, 1, 1, -1), (0, 1, 4, -1), (4, 1, 1, -1)])
+        ways = ((0, 1), (2, 3), (4, 5))
+        self.assertIs(bad_holds(long, ("ways", ways)), True)
+        self.assertIs(bad_holds(long, ("ways", tuple(way[::-1] for way in ways))), False)
+        shared = Web(6, [(0, 1, 2, -1), (2, 1, 3, -1), (3, 1, 1, -1), (0, 1, 4, -1), (4, 1, 3, -1), (3, 1, 1, -1),
+                         (0, 1, 5, -1), (5, 1, 2, -1), (2, 1, 1, -1), (0, 1, 1, -1)])
+        for ways in (((0, 1, 2), (3, 4, 5), (9,)), ((0, 1, 2), (6, 7, 8), (9,))):
+            self.assertIs(bad_holds(shared, ("ways", ways)), False)
+
+    def test_ways_between_rings(self):
+        ties = [(0, 1, 1, -1), (1, 1, 2, -1), (2, 1, 0, -1), (3, 1, 4, -1), (4, 1, 5, -1), (5, 1, 3, -1)]
+        web = Web(8, ties + [(0, 1, 1, -1), (1, 1, 6, -1), (6, 1, 3, -1), (3, 1, 4, -1), (6, 1, 7, 1), (0, 1, 3, 1),
+                             (0, 1, 7, 1)])
+        one, other = (0, 1, 2), (3, 4, 5)
+        for way, holds in (((7, 8), True), ((8, 7), False), ((11,), True), ((6, 7, 8), False), ((7, 8, 9), False),
+                           ((7,), False), ((7, 10), False), ((8,), False), ((), False), ((10, 8), False),
+                           ((12, 10, 8), True), ((12, 10), False), ((2, 7, 8), False), ((0,), False), ((3,), False),
+                           ((10,), False), ((7, 8, 3), False)):
+            self.assertIs(bad_holds(web, ("rings", one, other, way)), holds, way)
+            self.assertIs(bad_holds(web, ("rings", other, one, way[::-1])), holds, way)
+
+    def test_rings_with_common_points(self):
+        touching = Web(3, [(0, 1, 1, -1), (0, 1, 1, -1), (1, 1, 2, -1), (1, 1, 2, -1), (0, 1, 2, 1)])
+        for way, holds in (((), True), ((4,), False), ((0,), False)):
+            self.assertIs(bad_holds(touching, ("rings", (0, 1), (2, 3), way)), holds)
+        two = Web(2, [(0, 1, 1, -1)] * 4)
+        self.assertIs(bad_holds(two, ("rings", (0, 1), (2, 3), ())), False)
+        self.assertIs(bad_holds(two, ("rings", (0, 1), (1, 2), ())), False)
+        odd = Web(3, [(0, 1, 1, -1), (0, 1, 1, 1), (1, 1, 2, -1), (1, 1, 2, -1)])
+        self.assertIs(bad_holds(odd, ("rings", (0, 1), (2, 3), ())), False)
 
     def test_bad_blocks(self):
         for seed, web in enumerate(random_webs(32, 150, 5, 9, 0)):

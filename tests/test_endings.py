@@ -312,6 +312,16 @@ class EndTest(unittest.TestCase):
             for value in spoiled_sample(paper, seed, 100):
                 self.assertIs(end_holds(web, box, value), end_by_hand(web, box, value), value)
 
+    def test_told_still_boxes_that_are_not_within(self):
+        web = Web(1, [(0, 1), (0, 1)])
+        box = Box(web, [(0, 3), (0, 3)], (4,))
+        told = ((((0, 1, 0, 1),), ((0, -1, 0, 1),)), ((), ()))
+        self.assertIs(is_still(web, Box(web, [(1, 4), (0, 3)], (4,))), True)
+        for tie, side, number, looks in ((0, 1, 4, told[0][0]), (0, -1, 1, told[0][1]), (1, 1, 3, ()), (1, -1, 0, ())):
+            self.assertIs(bound_holds(web, box, tie, side, (number, looks)), True)
+        self.assertIs(end_holds(web, box, ("end", ((1, 4), (0, 3)), told)), False)
+        self.assertIs(end_holds(web, box, end_paper(web, box)), True)
+
     def test_still_boxes_that_are_not_the_end(self):
         """A lesser still box within: no looks tell its bounds."""
         box = Box(PIPES, [(0, 2)] * 3, (3, -3))
@@ -357,6 +367,21 @@ class EndTest(unittest.TestCase):
         self.assertIs(nothing_holds(web, box, (heavy, widths)), True)
         self.assertIs(nothing_holds(web, box, (heavy, ((0, 1),))), True)
         self.assertIs(nothing_holds(web, box, (looks, ((0, 1),))), False)
+        for widths, holds in ((((0, 1), (1, 1)), True), (((1, 1), (0, 1)), False), (((0, 1), (0, 1)), False),
+                              (((0, 0),), False), (((0, True),), False), (((0, -1),), False), (((5, 1),), False),
+                              (((0, 1), [1, 1]), False), (((0, 1, 1),), False), ([(0, 1)], False),
+                              (((4, 10 ** 30),), True), (((4, 10 ** 60),), False)):
+            self.assertIs(nothing_holds(web, box, (heavy, widths)), holds, widths)
+
+    def test_looks_alike_are_told_once(self):
+        web, box = unclosed(3, BIG)
+        looks, _ = nothing_paper(web, box)
+        thrice = tuple(look[:3] + (3,) for look in looks)
+        self.assertIs(nothing_holds(web, box, (thrice, ())), True)
+        parted = (thrice[0][:3] + (1,), thrice[0][:3] + (2,)) + thrice[1:]
+        self.assertIs(nothing_holds(web, box, (parted, ())), False)
+        self.assertIs(nothing_holds(web, box, (thrice[:1] + thrice, ())), False)
+        self.assertIs(nothing_holds(web, box, (thrice[::-1], ())), False)
 
 
 if __name__ == "__main__":

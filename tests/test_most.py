@@ -138,6 +138,12 @@ class MostTest(unittest.TestCase):
             self.assertEqual(full_paper(web)[0] == "full", full)
         self.assertTrue(min(seen.values()) > 5, seen)
 
+    def test_pairs_of_unlike_points(self):
+        web = Web(3, [(0, 1, 1, -1), (1, 1, 2, 1), (0, 1, 1, 1), (1, 1, 2, -1), (0, 1, 2, 1), (0, 1, 2, -1)])
+        self.assertIs(full_holds(web, ("full", ((0, 2), (3, 1), (5, 4)))), True)
+        for pairs in (((0, 1), (3, 2), (5, 4)), ((0, 3), (2, 1), (5, 4)), ((0, 4), (3, 1), (5, 2)), ((0, 2), (3, 1))):
+            self.assertIs(full_holds(web, ("full", pairs)), False)
+
     def test_one_point(self):
         self.assertEqual(full_paper(Web(1, [])), ("less",))
         self.assertEqual(full_paper(Web(1, [(0, 1)])), ("less",))
