@@ -81,16 +81,18 @@ def cancelling(ties, signs):
     return [number for number, tie in enumerate(ties) if tie_cancels(tie, signs)]
 
 
-def closing_tie(points, ties):
-    """The first tie that closes a ring with ties ahead of it, or None."""
+def closing_ties(points, ties):
+    """The ties that close a ring with ties ahead of them, ascending."""
     heads = list(range(points))
+    found = []
     for number, tie in enumerate(ties):
         if len(tie) == 4:
             first, second = head_of(heads, tie[0]), head_of(heads, tie[2])
             if first == second:
-                return number
-            heads[second] = first
-    return None
+                found.append(number)
+            else:
+                heads[second] = first
+    return found
 
 
 def head_of(heads, point):

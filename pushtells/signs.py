@@ -32,12 +32,13 @@ def shortage(web, box, signs):
     """By how much the signed totals are above all that the pulled ties can bring."""
     check_web_box(web, box)
     check_signs(web, signs)
-    return shortage_of(web, box, signs)
+    return lack_of(web.ties, box.bounds, box.totals, signs)
 
 
-def shortage_of(web, box, signs):
-    asked = sum([sign * total for sign, total in zip(signs, box.totals)])
-    for told, (least, greatest) in zip(web.ties, box.bounds):
+def lack_of(ties, bounds, totals, signs):
+    """The shortage of signs, over plain numbers."""
+    asked = sum([sign * total for sign, total in zip(signs, totals)])
+    for told, (least, greatest) in zip(ties, bounds):
         size = tie_pull(told, signs)
         asked -= max(size * least, size * greatest)
     return asked
@@ -46,7 +47,12 @@ def shortage_of(web, box, signs):
 def signs_show(web, box, value):
     """Whether any value is signs that show the box."""
     check_web_box(web, box)
-    return is_sign_row(value, web.points) and shortage_of(web, box, value) > 0
+    return do_show(web, box.bounds, box.totals, value)
+
+
+def do_show(web, bounds, totals, value):
+    """Whether any value is signs that show a box with these bounds and totals."""
+    return is_sign_row(value, web.points) and lack_of(web.ties, bounds, totals, value) > 0
 
 
 def hanging_parts(web, signs):

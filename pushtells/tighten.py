@@ -3,7 +3,7 @@
 from pushtells.boxes import Box, check_web_box
 from pushtells.checks import check_point, is_below, is_sequence
 from pushtells.errors import InvalidPoint, Refused
-from pushtells.hang import closing_tie, neighbours, spread
+from pushtells.hang import closing_ties, neighbours, spread
 from pushtells.looks import bare_point, crossed_tie, left_rows, looked, moved_bounds, point_stars, round_moves
 from pushtells.looks import run_rounds
 from pushtells.rows import doubles_of
@@ -87,9 +87,9 @@ def rounds(web, box):
 def check_rings(web):
     """Rows of looks are told of webs without rings alone."""
     check_web(web)
-    closing = closing_tie(web.points, web.ties)
-    if closing is not None:
-        raise Refused(closing)
+    closing = closing_ties(web.points, web.ties)
+    if closing:
+        raise Refused(closing[0])
 
 
 def sweep_row(web):

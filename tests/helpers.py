@@ -4,7 +4,7 @@ import itertools
 import random
 
 from pushtells.boxes import Box
-from pushtells.errors import InvalidWeb
+from pushtells.errors import InvalidBox, InvalidLot, InvalidPoint, InvalidSide, InvalidSigns, InvalidTie, InvalidWeb
 from pushtells.webs import Web
 
 SIGNS = (1, -1)
@@ -235,3 +235,148 @@ def raised(call, *args):
 
 def error(kind, **told):
     return kind, told
+
+
+def check_errors(case, call, fit, wrongs):
+    """Of each argument each wrong value raises its error, whatever stands behind it.
+
+    wrongs: for each argument pairs (wrong value, error), none for what is not checked.
+    """
+    for at, pairs in enumerate(wrongs):
+        behind = [wrong[0][0] if wrong else value for wrong, value in zip(wrongs[at + 1:], fit[at + 1:])]
+        for value, told in pairs:
+            case.assertEqual(raised(call, *fit[:at], value, *fit[at + 1:]), told, (call, value))
+            case.assertEqual(raised(call, *fit[:at], value, *behind), told, (call, value))
+
+
+def no_webs():
+    return [(value, error(InvalidWeb, at=-1)) for value in NO_WEBS]
+
+
+def no_boxes(web):
+    """No Box, or one of another number of ties or points."""
+    others = [Box(Web(web.points, []), [], [0] * web.points) if web.ties else Box(Web(1, [(0, 1)]), [(0, 1)], [0]),
+              Box(Web(web.points + 1, web.ties), [(0, 1)] * len(web.ties), [0] * (web.points + 1))]
+    return [(value, error(InvalidBox, at=-1)) for value in [None, True, 0, "", (), [], web] + others]
+
+
+def no_ties(web):
+    return [(value, error(InvalidTie, at=-1)) for value in NO_INTEGERS + [-1, len(web.ties), 10 ** 30]]
+
+
+def no_points(web):
+    return [(value, error(InvalidPoint, at=-1)) for value in NO_INTEGERS + [-1, web.points, 10 ** 30]]
+
+
+def no_sides():
+    return [(value, error(InvalidSide, at=-1)) for value in NO_INTEGERS + [0, 2, -2, 10 ** 30]]
+
+
+def no_rows(kind, many, right, wrong):
+    """No sequence of so many things, or one with a wrong one: the first such place is told."""
+    found = [(value, error(kind, at=-1)) for value in NO_SEQUENCES + [[right] * (many + 1), (wrong[0],) * (many + 1)]]
+    if many:
+        found += [(value, error(kind, at=-1)) for value in [(), [], (wrong[0],) * (many - 1)] if len(value) != many]
+    for bad in wrong:
+        for at in range(many):
+            row = [right] * at + [bad] + [wrong[0]] * (many - at - 1)
+            found += [(row, error(kind, at=at)), (tuple(row[:at + 1]) + (right,) * (many - at - 1), error(kind, at=at))]
+    return found
+
+
+def no_signs(web, noughts=False):
+    """Wrong signs; of further sums noughts alone are wrong, too."""
+    found = no_rows(InvalidSigns, web.points, 1, NO_INTEGERS + [2, -2, 10 ** 30])
+    return found + ([((0,) * web.points, error(InvalidSigns, at=-1))] if noughts else [])
+
+
+def no_lots(many):
+    """No lots of so many numbers: the first place that is none, or was there."""
+    found = [(value, error(InvalidLot, at=-1)) for value in NO_SEQUENCES]
+    for bad in NO_INTEGERS + [-1, many, 10 ** 30]:
+        found.append(([bad], error(InvalidLot, at=0)))
+        if many:
+            found.append(((0, bad, None), error(InvalidLot, at=1)))
+    if many:
+        found += [([many - 1, many - 1, None], error(InvalidLot, at=1))]
+    if many > 1:
+        found += [((1, 0, 1), error(InvalidLot, at=2))]
+    return found
+
+
+def half_rows(web, box):
+    """All fillings in whole numbers and halves, doubled, by trying."""
+    rows = itertools.product(*[range(2 * least, 2 * most + 1) for least, most in box.bounds])
+    due = tuple(2 * total for total in box.totals)
+    return [row for row in rows if totals_of(web, row) == due]
+
+
+def whole_rows(web, box):
+    """All whole fillings, by trying."""
+    rows = itertools.product(*[range(least, most + 1) for least, most in box.bounds])
+    return [row for row in rows if totals_of(web, row) == box.totals]
+
+
+def totals_of(web, row):
+    """The signed sums of numbers on ties."""
+    sums = [0] * web.points
+    for number, tie in zip(row, web.ties):
+        for at in range(0, len(tie), 2):
+            sums[tie[at]] += tie[at + 1] * number
+    return tuple(sums)
+
+
+def lack_by_hand(web, box, signs):
+    """How much more the signed totals are than all that ties can bring."""
+    brought = sum(max(pull_of(tie, signs) * x for x in pair) for tie, pair in zip(web.ties, box.bounds))
+    return sum(s * t for s, t in zip(signs, box.totals)) - brought
+
+
+def integers(value, many):
+    """Whether it is a tuple of so many integers."""
+    return type(value) is tuple and len(value) == many and all(type(x) is int for x in value)
+
+
+def are_signs(web, value):
+    return integers(value, web.points) and all(-1 <= x <= 1 for x in value)
+
+
+def shows_by_hand(web, box, value):
+    return are_signs(web, value) and lack_by_hand(web, box, value) > 0
+
+
+def fills_by_hand(web, box, value, times=2):
+    """Whether any value is a filling, told so many times."""
+    if not integers(value, len(web.ties)) or totals_of(web, value) != tuple(times * x for x in box.totals):
+        return False
+    return all(times * least <= x <= times * most for x, (least, most) in zip(value, box.bounds))
+
+
+def told_as(value, word, many):
+    """Whether it is a tuple of so many things, the word ahead."""
+    return type(value) is tuple and len(value) == many and type(value[0]) is str and value[0] == word
+
+
+def odd_components(web):
+    """The lots of points that hang together and have an odd ring."""
+    odd = [points_in(web, ring) for ring in all_rings(web) if sign_of(web, ring) == -1]
+    return [lot for lot in lots_by_hand(web) if any(ring[0] in lot for ring in odd)]
+
+
+def lots_by_hand(web, row=None):
+    """Points that hang together by ties of two points."""
+    lots = [{point} for point in range(web.points)]
+    for number in doubles(web) if row is None else row:
+        joined = [lot for lot in lots if lot & set(ends_of(web, number))]
+        lots = [lot for lot in lots if lot not in joined] + [set().union(*joined)]
+    return sorted(tuple(sorted(lot)) for lot in lots)
+
+
+def great_boxes(seed, many=2, points=150, ties=360, size=10 ** 18):
+    """Webs of the greatest sizes with boxes that something fills."""
+    rng = random.Random(seed)
+    found = []
+    for at in range(many):
+        web = random_web(rng, points, ties, 0.1 * at)
+        found.append((web, filled_box(rng, web, size)))
+    return found

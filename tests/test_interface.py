@@ -34,6 +34,15 @@ INTERFACE = {
     "endings": {"bound_paper": "web box tie side", "bound_holds": "web box tie side value",
                 "nothing_paper": "web box", "nothing_holds": "web box value", "end_paper": "web box",
                 "end_holds": "web box value"},
+    "cover": {"cover_web": "web", "cover_box": "web box", "put_down": "web row", "lifted": "web z",
+              "signs_down": "web signs", "worst_signs": "web box less weights"},
+    "fillings": {"filling_holds": "web box value", "fill_paper": "web box", "fill_holds": "web box value"},
+    "ends": {"exact_ends": "web box tie", "stop_paper": "web box tie side", "stop_holds": "web box tie side value",
+             "all_ends": "web box"},
+    "whole": {"whole_filling": "web box", "is_whole_filling": "web box value", "whole_through": "web box tie number",
+              "whole_paper": "web box", "whole_holds": "web box value"},
+    "courts": {"left_ties": "web", "court2": "web", "court2_paper": "web", "court2_holds": "web value",
+               "court3": "web", "court3_paper": "web", "court3_holds": "web value"},
 }
 
 
@@ -49,11 +58,14 @@ def arguments(names, rng):
     fit = {"points": lot, "ties": (0,), "web": web, "box": box, "point": rng.randrange(web.points), "tie": 0,
            "one": web, "other": web, "way": (0,), "row": (), "value": ("odd", (0, 1)), "least": -1, "greatest": 2,
            "by": 3, "many": 2, "bounds": box.bounds, "totals": box.totals, "signs": (1,) * web.points, "side": -1,
-           "block": (0,)}
+           "block": (0,), "row": rng.choice([(), (4,) * (2 * len(web.ties))]), "z": (4,) * len(web.ties), "less": (1, 2), "number": 1,
+           "weights": (2,) * len(web.ties)}
     if names == ["points", "ties"]:
         fit.update(points=web.points, ties=web.ties)
     if names == ["points"]:
         fit["points"] = 3
+    if names == ["web", "signs"]:
+        fit["signs"] = (1,) * (web.points if rng.random() < 0.5 else 2 * web.points)
     if "box" not in names and names[:2] == ["web", "one"]:
         fit.update(one=box, other=filled_box(rng, web, 3))
     lists = {name: listed(thing) if name != "value" else thing for name, thing in fit.items()}

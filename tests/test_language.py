@@ -115,7 +115,7 @@ class LanguageTest(unittest.TestCase):
             for node in imports_of(tree):
                 names = [each.name for each in node.names]
                 self.assertTrue(node.level == 0 and all(each.asname is None for each in node.names), name)
-                self.assertLessEqual(set(names), used, name)
+                self.assertEqual(set(names) - used, set(), name)
                 if node.module in LIBRARY:
                     self.assertLessEqual(set(names), LIBRARY[node.module])
                     continue
@@ -139,7 +139,7 @@ class LanguageTest(unittest.TestCase):
         for name, tree in TREES.items():
             for node in tree.body:
                 if isinstance(node, (ast.FunctionDef, ast.ClassDef)) and name != "errors.py":
-                    self.assertIn(node.name, used | told, name)
+                    self.assertTrue(node.name in used | told, (name, node.name))
 
     def test_names(self):
         for name, tree in TREES.items():
