@@ -10,6 +10,7 @@ import unittest
 
 from pushtells.boxes import Box
 from pushtells.errors import PushError
+from pushtells.readings import cheapest_readings, readings_paper
 from pushtells.webs import Web
 from tests.helpers import JUNK, MIXED, PIPES, TRIANGLE, filled_box, raised, random_web
 
@@ -43,6 +44,22 @@ INTERFACE = {
               "whole_paper": "web box", "whole_holds": "web box value"},
     "courts": {"left_ties": "web", "court2": "web", "court2_paper": "web", "court2_holds": "web value",
                "court3": "web", "court3_paper": "web", "court3_holds": "web value"},
+    "fools": {"built_box": "web paper", "level_piece": "web box signs", "fools_paper": "web box which",
+              "fools_holds": "web box which value"},
+    "totals": {"closed_evens": "web", "web_rank": "web", "free_number": "web", "told_by": "web lot",
+               "tie_paper": "web lot tie", "tie_holds": "web lot tie value", "told_values": "web totals read",
+               "totals_paper": "web totals", "totals_hold": "web totals value", "fewest_swing": "web",
+               "like_ties": "web", "wrong_readings": "web totals read"},
+    "readings": {"enough_paper": "web lot", "enough_holds": "web lot value", "readings_paper": "web",
+                 "readings_hold": "web value", "exchanged_ties": "web one other tie",
+                 "cheapest_readings": "web prices", "cheapest_paper": "web prices",
+                 "cheapest_holds": "web prices value", "lot_number": "web lot", "lot_paper": "web lot",
+                 "lot_holds": "web lot value", "weighed_count": "web"},
+    "sums": {"sum_look": "web box signs", "look_lack": "web box signs", "is_needed": "web signs",
+             "needed_signs": "web", "needed_count": "web", "failing_sums": "web box",
+             "needed_part": "web box signs", "split_paper": "web signs", "split_holds": "web signs value",
+             "cut_bounds": "web box rows", "sum_ends": "web box", "lone_box": "web signs wide",
+             "lacking_sums": "web rows"},
 }
 
 
@@ -59,17 +76,28 @@ def arguments(names, rng):
            "one": web, "other": web, "way": (0,), "row": (), "value": ("odd", (0, 1)), "least": -1, "greatest": 2,
            "by": 3, "many": 2, "bounds": box.bounds, "totals": box.totals, "signs": (1,) * web.points, "side": -1,
            "block": (0,), "row": rng.choice([(), (4,) * (2 * len(web.ties))]), "z": (4,) * len(web.ties), "less": (1, 2), "number": 1,
-           "weights": (2,) * len(web.ties)}
+           "weights": (2,) * len(web.ties), "which": 2, "lot": tuple(range(1, len(web.ties))),
+           "read": ((0, 1),), "prices": (1,) * len(web.ties), "rows": ((1,) * web.points,), "wide": 3,
+           "paper": ("odd", (0, 1))}
     if names == ["points", "ties"]:
         fit.update(points=web.points, ties=web.ties)
     if names == ["points"]:
         fit["points"] = 3
+    if names == ["web", "totals", "read"] and rng.random() < 0.5:
+        fit["read"] = (1,) * len(web.ties)
+    if names[1:] == ["one", "other", "tie"]:
+        fit.update(one=readings_paper(web)[0], other=cheapest_readings(web, range_prices(web)))
     if names == ["web", "signs"]:
         fit["signs"] = (1,) * (web.points if rng.random() < 0.5 else 2 * web.points)
     if "box" not in names and names[:2] == ["web", "one"]:
         fit.update(one=box, other=filled_box(rng, web, 3))
-    lists = {name: listed(thing) if name != "value" else thing for name, thing in fit.items()}
+    lists = {name: listed(thing) if name not in ("value", "paper") else thing for name, thing in fit.items()}
     return [{name: kind[name] for name in names} for kind in (fit, lists)]
+
+
+def range_prices(web):
+    """Other prices for each tie, the first ones dear."""
+    return tuple(range(len(web.ties), 0, -1))
 
 
 def listed(thing):
@@ -151,7 +179,9 @@ class InterfaceTest(unittest.TestCase):
                 given = dict(fit, **{place: value})
                 if place == "value":
                     box = filled_box(random.Random(2), web, 3)
-                    fitting = {"web": web, "box": box, "point": 0, "tie": 0, "side": 1, "block": (1,)}
+                    fitting = {"web": web, "box": box, "point": 0, "tie": 0, "side": 1, "block": (1,), "which": 2,
+                               "lot": (1,), "totals": box.totals, "prices": (1,) * len(web.ties),
+                               "signs": (1,) * web.points}
                     given = {part: fitting.get(part, value) for part in parameters}
                     try:
                         self.assertIn(told(module, name)(**given), (True, False))

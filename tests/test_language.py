@@ -229,7 +229,8 @@ class LanguageTest(unittest.TestCase):
                 if own or view:
                     parent = above[node]
                     once = isinstance(parent, (ast.For, ast.comprehension)) and parent.iter is node
-                    call = isinstance(parent, ast.Call) and parent.func.id in ("list", "tuple", "dict", "sorted")
+                    call = isinstance(parent, ast.Call) and parent.func.id in ("list", "tuple", "dict", "sorted",
+                                                                                       "enumerate")
                     self.assertTrue(once or call, (name, node.lineno))
 
     def test_errors_are_made_where_they_are_raised(self):
