@@ -8,12 +8,11 @@ from pushtells.fillings import doubled_filling, filling_holds, showing
 from pushtells.hang import cancelling, neighbours, sign_row, spreads
 from pushtells.leads import is_bad_piece
 from pushtells.looks import looked, point_stars
-from pushtells.partings import whole_answer
 from pushtells.rows import doubles_of, other_point, points_of, ring_points, sign_at, tie_ends
 from pushtells.signs import do_show, lack_of, tie_pull
 from pushtells.tighten import is_still
 from pushtells.webs import check_web
-from pushtells.whole import check_settings, is_none_tree, is_whole_filling
+from pushtells.whole import check_settings, is_none_tree, is_whole_filling, whole_told
 
 MOST_HELD_TIES = 40
 
@@ -136,7 +135,7 @@ def parity_or_whole(web, box):
     if signs is not None:
         return "fools", ("odd", signs)
     check_settings(web, box)
-    word, told = whole_answer(web, box)
+    word, told = whole_told(web, box)
     return ("whole", told) if word == "filling" else ("fools", (word, told))
 
 

@@ -1,23 +1,23 @@
-"""Whole fillings, or trees of partings that show that there is none.
+"""Whole fillings, or plans of partings by which there are none.
 
-An answer is ("filling", numbers) or ("none", tree), as `whole_paper` tells it.
+An answer is ("filling", numbers) or ("none", plan). A plan is () where nothing at all fills the box, else (tie,
+number, plan, plan): what the tie has is parted at the number, and each half has a plan.
 """
 
 from pushtells.boxes import Box, cut_box
-from pushtells.copies import copy_numbers, twice
 from pushtells.fillings import doubled_filling, showing
-from pushtells.hang import closing_ties, neighbours, sign_row, signs_along, spreads
+from pushtells.hang import closing_ties, neighbours, signs_along, spreads
 from pushtells.rows import doubles_of, tie_cancels, tie_ends
 from pushtells.tighten import tightened
 from pushtells.webs import Web, part_of
 
 
-def ringed_parts(web, chosen):
-    """(points, ties, odd) of each lot that hangs together by chosen ties of two points: odd: it has an odd ring."""
-    found = spreads(neighbours(web.points, web.ties, chosen), list(range(web.points)))
+def ringed_parts(web):
+    """(points, ties of two points, odd) of each component: odd: it has an odd ring."""
+    found = spreads(neighbours(web.points, web.ties, doubles_of(web.ties)), list(range(web.points)))
     homes = {point: at for at, ups in enumerate(found) for point in ups}
     rows = [[] for _ in found]
-    for number in chosen:
+    for number in doubles_of(web.ties):
         rows[homes[web.ties[number][0]]].append(number)
     parts = []
     for ups, row in zip(found, rows):
@@ -31,59 +31,71 @@ def whole_answer(web, box):
     """The answer for a box with few settings."""
     filling = doubled_filling(web, box)
     if filling is None:
-        return "none", signs_leaf(web, box)
+        return "none", ()
     numbers = [number // 2 for number in filling]
-    for lot, _, odd in ringed_parts(web, doubles_of(web.ties)):
+    for lot, _, odd in ringed_parts(web):
         if odd:
-            word, told, kept = part_answer(web, box, lot)
+            part, kept = part_of(web, lot)
+            inner = Box(part, [box.bounds[number] for number in kept], [box.totals[point] for point in lot])
+            word, told = odd_answer(part, inner)
             if word == "none":
-                return word, told
+                return word, renumbered(told, kept)
             for number, value in zip(kept, told):
                 numbers[number] = value
-    return "filling", tuple(numbers)
+    return "filling", numbers
 
 
-def signs_leaf(web, box):
-    """The tree of a box that nothing fills."""
-    return "signs", showing(web, box.bounds, box.totals)
+def renumbered(plan, kept):
+    """A plan by other numbers of its ties."""
+    if not plan:
+        return plan
+    return kept[plan[0]], plan[1], renumbered(plan[2], kept), renumbered(plan[3], kept)
 
 
-def part_answer(web, box, lot):
-    """(word, told, ties) of a component with an odd ring, by the numbers of the web."""
-    part, kept = part_of(web, lot)
-    inner = Box(part, [box.bounds[number] for number in kept], [box.totals[point] for point in lot])
-    chords = {number: True for number in closing_ties(part.points, part.ties)}
-    word, told = searched(part, inner, chords)
-    return word, told if word == "filling" else whole_tree(web, told, lot, kept), kept
-
-
-def whole_tree(web, tree, lot, kept):
-    """The tree of a part of the web by the numbers of the web."""
-    if tree[0] == "signs":
-        return "signs", sign_row(web.points, {point: sign for point, sign in zip(lot, tree[1])})
-    below, above = [whole_tree(web, side, lot, kept) for side in tree[3:]]
-    return "parted", kept[tree[1]], tree[2], below, above
-
-
-def searched(web, box, chords):
-    """The answer for one component: chords are parted till at most single rings hang together."""
+def odd_answer(web, box):
+    """The answer for a single component with an odd ring, of a box that something fills."""
     end = tightened(web, box)
-    if end is None or doubled_filling(web, end) is None:
-        return "none", signs_leaf(web, box)
-    wide = [number for number in doubles_of(web.ties) if end.bounds[number][0] < end.bounds[number][1]]
-    rows = []
-    for points, row, odd in ringed_parts(web, wide):
-        if odd and len(row) > len(points):
-            tie = [number for number in row if number in chords][0]
-            return parted(web, box, chords, tie, middle_of(end.bounds[tie]))
-        if odd:
-            rows.append(row)
-    return tried(web, box, end, rows)
+    wide = [number for number, (least, most) in enumerate(end.bounds) if least < most]
+    if len(wide) < len(web.ties):
+        return settled_answer(web, end, wide)
+    chords = closing_ties(web.points, web.ties)
+    tie = chords[0]
+    middle = (end.bounds[tie][0] + end.bounds[tie][1]) // 2
+    if len(chords) == 1:
+        return ring_answer(web, end, tie, middle)
+    plans = []
+    for half in halves_of(web, end, tie, middle):
+        word, told = whole_answer(web, half)
+        if word == "filling":
+            return word, told
+        plans.append(told)
+    return "none", (tie, middle, plans[0], plans[1])
 
 
-def middle_of(pair):
-    """The middle of two bounds, or the lesser whole number where it lies between two."""
-    return (pair[0] + pair[1]) // 2
+def settled_answer(web, end, wide):
+    """The answer where some ties have one number alone: that of the others, which may hang together no more."""
+    totals = list(end.totals)
+    numbers = [least for least, _ in end.bounds]
+    for told, (least, most) in zip(web.ties, end.bounds):
+        if least == most:
+            for point, sign in tie_ends(told):
+                totals[point] -= sign * least
+    rest = Web(web.points, [web.ties[number] for number in wide])
+    word, told = whole_answer(rest, Box(rest, [end.bounds[number] for number in wide], totals))
+    if word == "none":
+        return word, renumbered(told, wide)
+    for number, value in zip(wide, told):
+        numbers[number] = value
+    return word, numbers
+
+
+def ring_answer(web, end, tie, middle):
+    """The answer where a tie is on the one ring, an odd one: at its middle, or on either side of it."""
+    for number in range(middle, end.bounds[tie][1] + end.bounds[tie][0] - middle + 1):
+        word, told = whole_answer(web, cut_box(web, end, tie, number, number))
+        if word == "filling":
+            return word, told
+    return "none", (tie, middle, (), ())
 
 
 def halves_of(web, box, tie, number):
@@ -92,43 +104,9 @@ def halves_of(web, box, tie, number):
     return [cut_box(web, box, tie, least, number), cut_box(web, box, tie, number + 1, most)]
 
 
-def parted(web, box, chords, tie, number):
-    """The answer by those of both halves."""
-    trees = []
-    for half in halves_of(web, box, tie, number):
-        word, told = searched(web, half, chords)
-        if word == "filling":
-            return word, told
-        trees.append(told)
-    return "none", ("parted", tie, number, trees[0], trees[1])
-
-
-def tried(web, box, end, rows):
-    """The answer where each of these rows of ties has one ring, an odd one, and nothing else has an odd ring."""
-    settled = end
-    for row in rows:
-        tie = row[closing_ties(web.points, [web.ties[number] for number in row])[0]]
-        middle = middle_of(end.bounds[tie])
-        cuts = [cut_box(web, settled, tie, number, number) for number in (middle, middle + 1)]
-        left = [cut for cut in cuts if cut is not None and tightened(web, cut) is not None]
-        if not left:
-            below, above = [signs_leaf(web, half) for half in halves_of(web, box, tie, middle)]
-            return "none", ("parted", tie, middle, below, above)
-        settled = left[0]
-    return "filling", level_numbers(web, settled)
-
-
-def level_numbers(web, box):
-    """A whole filling where ties with unlike bounds make no odd ring."""
-    wide = [number for number, (least, most) in enumerate(box.bounds) if least < most]
-    totals = list(box.totals)
-    numbers = [least for least, _ in box.bounds]
-    for number, (least, most) in enumerate(box.bounds):
-        if least == most:
-            for point, sign in tie_ends(web.ties[number]):
-                totals[point] -= sign * least
-    rest = Web(web.points, [web.ties[number] for number in wide])
-    found = copy_numbers(rest.points, rest.ties, twice([box.bounds[number] for number in wide]), totals)
-    for number, value in zip(wide, found[::2]):
-        numbers[number] = value
-    return tuple(numbers)
+def tree_of(web, box, plan):
+    """The tree of partings of a plan: its leaves are signs that show what is left of the box."""
+    if not plan:
+        return "signs", showing(web, box.bounds, box.totals)
+    below, above = halves_of(web, box, plan[0], plan[1])
+    return "parted", plan[0], plan[1], tree_of(web, below, plan[2]), tree_of(web, above, plan[3])

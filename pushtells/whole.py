@@ -5,8 +5,7 @@ from pushtells.checks import check_tie, is_below, is_integer, is_paper
 from pushtells.errors import InvalidSize, InvalidValue
 from pushtells.fillings import fits
 from pushtells.hang import closing_ties
-from pushtells.partings import ringed_parts, whole_answer
-from pushtells.rows import doubles_of
+from pushtells.partings import ringed_parts, tree_of, whole_answer
 from pushtells.signs import do_show
 from pushtells.tighten import tightened
 
@@ -17,7 +16,7 @@ def settling_chords(web):
     """The chords of all components with an odd ring and two chords or more."""
     closing = {number: True for number in closing_ties(web.points, web.ties)}
     found = []
-    for _, row, odd in ringed_parts(web, doubles_of(web.ties)):
+    for _, row, odd in ringed_parts(web):
         chords = [number for number in row if number in closing]
         if odd and len(chords) > 1:
             found.extend(chords)
@@ -41,8 +40,12 @@ def whole_filling(web, box):
     """Some whole filling, or None."""
     check_web_box(web, box)
     check_settings(web, box)
-    word, told = whole_answer(web, box)
-    return told if word == "filling" else None
+    return row_of(whole_answer(web, box))
+
+
+def row_of(answer):
+    """The numbers of an answer, or None."""
+    return tuple(answer[1]) if answer[0] == "filling" else None
 
 
 def is_whole_filling(web, box, value):
@@ -61,15 +64,20 @@ def whole_through(web, box, tie, number):
     through = cut_box(web, box, tie, number, number)
     if through is None:
         return None
-    word, told = whole_answer(web, through)
-    return told if word == "filling" else None
+    return row_of(whole_answer(web, through))
 
 
 def whole_paper(web, box):
     """A whole filling, or a tree of partings that shows that there is none."""
     check_web_box(web, box)
     check_settings(web, box)
-    return whole_answer(web, box)
+    return whole_told(web, box)
+
+
+def whole_told(web, box):
+    """The paper of a box with few settings."""
+    word, told = whole_answer(web, box)
+    return word, tuple(told) if word == "filling" else tree_of(web, box, told)
 
 
 def whole_holds(web, box, value):

@@ -259,6 +259,20 @@ class WholeTest(unittest.TestCase):
                     self.assertTrue(many <= 4096 and deep <= 30, (many, deep))
         self.assertGreater(seen, 3)
 
+    def test_parts_that_hang_together_by_settled_ties(self):
+        """4,096 settings: four lots of three odd rings, two or all of which want a tie of a last point that has fewer."""
+        star = [(at, 1, at + 1, sign) for at in (0, 2, 4) for sign in (1, -1)] + [(at, 1, 6, 1) for at in (0, 2, 4)]
+        good, bad = [1, 0, 1, 0, 2, 0, 2], [1, 0, 1, 0, 1, 0, 1]
+        for lots in ((good, good, good, bad), (good,) * 4, (bad, good, good, bad), (good, bad, good, good)):
+            ties = [tuple(x + 7 * lot if at % 2 == 0 else x for at, x in enumerate(tie)) for lot in range(4) for tie in star]
+            web = Web(28, ties + [(0, 1, 7, -1), (7, 1, 14, -1), (14, 1, 21, -1)])
+            box = Box(web, [(0, 1)] * 36 + [(0, 0)] * 3, sum(lots, []))
+            word, told = whole_paper(web, box)
+            self.assertEqual((word, whole_filling(web, box) is None), ("none", True) if bad in lots else ("filling", False))
+            self.assertIs(whole_holds(web, box, (word, told)), True)
+            if word == "none":
+                self.assertLessEqual(partings(told)[0], 4096)
+
     def test_great_webs(self):
         for web, box in great_boxes(77):
             evens = Web(web.points, [told if len(told) == 2 else told[:3] + (-told[1],) for told in web.ties])
