@@ -197,8 +197,9 @@ def fewest_swing(web):
     check_web(web)
     if len(web.ties) > MOST_SWINGING_TIES:
         raise InvalidSize("ties")
-    for many in range(1, len(web.ties) + 1):
-        for row in combinations(all_ties(web), many):
+    ties = all_ties(web)
+    for many in range(1, len(ties) + 1):
+        for row in combinations(ties, many):
             basis = basis_of(web.points, web.ties, row)
             if len(basis) < many:
                 swing = swing_of(web.points, web.ties, basis, [tie for tie in row if tie not in basis][0])

@@ -52,11 +52,11 @@ def value_of(web, box, signs, p, q, weights):
 class WorstTest(unittest.TestCase):
     def test_by_hand(self):
         self.assertEqual(worst_signs(PIPES, FULL), (2, (1, 1)))
-        self.assertEqual(worst_signs(PIPES, Box(PIPES, [(0, 2)] * 3, (4, -4))), (0, (0, 0)))
+        self.assertEqual(worst_signs(PIPES, Box(PIPES, [(0, 2)] * 3, (4, -4)))[0], 0)
         self.assertEqual(worst_signs(PIPES, FULL, (0, 5)), (10, (1, 1)))
         alone = Web(1, [])
         self.assertEqual(worst_signs(alone, Box(alone, [], [-7])), (7, (-1,)))
-        self.assertEqual(worst_signs(alone, Box(alone, [], [0])), (0, (0,)))
+        self.assertEqual(worst_signs(alone, Box(alone, [], [0]))[0], 0)
 
     def test_less_takes_off_weighed_pulls(self):
         web = Web(1, [(0, 1), (0, 1)])

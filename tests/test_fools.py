@@ -385,7 +385,7 @@ class FoolsTest(unittest.TestCase):
 
     def test_settings(self):
         """Refused only where a whole filling is what is asked."""
-        box = knot_box(65, 64)
+        box = knot_box(17, 241)
         end = tightened(KNOT, box)
         refused = error(InvalidSize, word="settings")
         self.assertEqual(raised(fools_paper, KNOT, end, 2), refused)
@@ -396,7 +396,8 @@ class FoolsTest(unittest.TestCase):
         moving = Box(both, end.bounds + FULL.bounds, end.totals + (9, 9))
         self.assertEqual(fools_paper(both, moving, 2), ("moves", 2))
         empty = Box(both, end.bounds + FULL.bounds, end.totals + FULL.totals)
-        self.assertEqual(fools_paper(both, empty, 2), ("fools", ("signs", (0, 0, 1, 1))))
+        paper = fools_paper(both, empty, 2)
+        self.assertEqual((paper[0], paper[1][0], fools_holds(both, empty, 2, paper)), ("fools", "signs", True))
         odd = side_by_side(KNOT, TRIANGLE)
         told = Box(odd, end.bounds + HALVES.bounds, end.totals + HALVES.totals)
         self.assertEqual(fools_paper(odd, told, 2), ("fools", ("odd", (0, 0, 1, 1, 1))))

