@@ -5,7 +5,7 @@ they have flows from the side where it counts less to the side where it counts m
 from a ground, or goes there.
 """
 
-from pushtells.flows import served
+from pushtells.flows import nearly_served, served
 from pushtells.hang import neighbours, spread
 from pushtells.rows import doubles_of
 
@@ -62,6 +62,11 @@ def twice(pairs):
     return [pair for pair in pairs for _ in range(2)]
 
 
+def stretched(pairs, weights, p, q):
+    """All bounds q times, and wider by p times a weight on both sides."""
+    return [(q * least - p * weight, q * most + p * weight) for (least, most), weight in zip(pairs, weights)]
+
+
 def worst_row(points, ties, bounds, totals):
     """Signs with the greatest shortage, as few of them as can be."""
     ground = 2 * points
@@ -97,3 +102,12 @@ def copy_numbers(points, ties, bounds, totals):
         return None
     found = {copy: bounds[copy][0] + flow for copy, flow in zip(chosen, flows)}
     return [found[copy] if copy in found else found[copy ^ 1] for copy in range(len(copies))]
+
+
+def nearest_numbers(points, ties, bounds, totals):
+    """A whole number for each copy, with bounds for each tie, whose sums are off the totals as little as can be."""
+    ground = 2 * points
+    pairs = twice(bounds)
+    arcs, needs = copy_flows(points, ties, pairs, totals, list(range(len(pairs))))
+    flows = nearly_served(arcs, needs[:-1] + [0], ground)
+    return [least + flow for (least, _), flow in zip(pairs, flows)]

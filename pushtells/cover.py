@@ -2,7 +2,7 @@
 
 from pushtells.boxes import Box, check_web_box
 from pushtells.checks import is_integer, is_sized
-from pushtells.copies import copied_ties, side_totals, twice, worst_row
+from pushtells.copies import copied_ties, side_totals, stretched, twice, worst_row
 from pushtells.errors import InvalidRow, InvalidSigns, InvalidSize, InvalidWeights
 from pushtells.signs import lack_of
 from pushtells.webs import Web, check_web
@@ -73,7 +73,7 @@ def worst_signs(web, box, less=(0, 1), weights=None):
     check_weights(web, told)
     p, q = less
     # Wider bounds bring so much more as weighed pulls take off.
-    bounds = [(q * least - p * weight, q * most + p * weight) for (least, most), weight in zip(box.bounds, told)]
+    bounds = stretched(box.bounds, told, p, q)
     totals = [q * total for total in box.totals]
     signs = worst_row(web.points, web.ties, bounds, totals)
     return lack_of(web.ties, bounds, totals, signs), signs

@@ -69,11 +69,10 @@ def most_flow(net, start, aim):
     return total, far
 
 
-def served(arcs, needs):
-    """(lacking, flows, far): all that can be brought to where there is need from where there is too much.
+def needing_net(arcs, needs):
+    """The net of arcs with a source, behind all points, of what is too much, and a sink, behind it, of what lacks.
 
-    Needs are below 0 where there is too much. Lacking is what no flow brings; flows tell what goes along each arc;
-    from what is in far those that lack something could still be reached.
+    Needs are below 0 where there is too much.
     """
     source, sink = len(needs), len(needs) + 1
     told = list(arcs)
@@ -82,7 +81,31 @@ def served(arcs, needs):
             told.append((source, point, -need))
         elif need > 0:
             told.append((point, sink, need))
-    net = flow_net(len(needs) + 2, told)
-    brought, far = most_flow(net, source, sink)
+    return flow_net(len(needs) + 2, told)
+
+
+def flows_along(net, many):
+    """What goes along each of the first arcs."""
+    return [net[1][2 * at + 1] for at in range(many)]
+
+
+def served(arcs, needs):
+    """(lacking, flows, far): all that can be brought to where there is need from where there is too much.
+
+    Lacking is what no flow brings; flows tell what goes along each arc; from what is in far those that lack
+    something could still be reached.
+    """
+    net = needing_net(arcs, needs)
+    brought, far = most_flow(net, len(needs), len(needs) + 1)
     lacking = sum([need for need in needs if need > 0]) - brought
-    return lacking, [net[1][2 * at + 1] for at in range(len(arcs))], far
+    return lacking, flows_along(net, len(arcs)), far
+
+
+def nearly_served(arcs, needs, ground):
+    """Flows that leave as little as can be lacking and too much in all; the ground brings and takes whatever goes."""
+    net = needing_net(arcs, needs)
+    source, sink = len(needs), len(needs) + 1
+    # What an earlier one of these leaves over no later one could bring either.
+    for start, aim in ((source, sink), (ground, sink), (source, ground)):
+        most_flow(net, start, aim)
+    return flows_along(net, len(arcs))

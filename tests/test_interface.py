@@ -60,6 +60,19 @@ INTERFACE = {
              "needed_part": "web box signs", "split_paper": "web signs", "split_holds": "web signs value",
              "cut_bounds": "web box rows", "sum_ends": "web box", "lone_box": "web signs wide",
              "lacking_sums": "web rows"},
+    "amiss": {"reach": "web weights signs", "least_widening": "web box weights", "widening_paper": "web box weights",
+              "widening_holds": "web box weights value", "greatest_narrowing": "web box weights",
+              "narrowing_paper": "web box weights", "narrowing_holds": "web box weights value",
+              "least_change": "web box", "change_paper": "web box", "change_holds": "web box value"},
+    "single": {"right_total": "web box point", "wrong_points": "web box", "right_tie": "web box tie",
+               "wrong_ties": "web box", "single_paper": "web box word number",
+               "single_holds": "web box word number value"},
+    "kinds": {"accounts_web": "points postings", "alike_web": "points ties", "even_turning": "web",
+              "odd_turning": "web", "most_alike": "points", "most_plain": "points", "fullest_alike": "points",
+              "fullest_plain": "points"},
+    "tables": {"table_web": "rows columns holes loose", "hole_groups": "rows columns holes",
+               "is_trusted": "rows columns holes", "fewest_read": "rows columns holes",
+               "read_paper": "rows columns holes prices", "read_holds": "rows columns holes prices value"},
 }
 
 
@@ -78,11 +91,16 @@ def arguments(names, rng):
            "block": (0,), "row": rng.choice([(), (4,) * (2 * len(web.ties))]), "z": (4,) * len(web.ties), "less": (1, 2), "number": 1,
            "weights": (2,) * len(web.ties), "which": 2, "lot": tuple(range(1, len(web.ties))),
            "read": ((0, 1),), "prices": (1,) * len(web.ties), "rows": ((1,) * web.points,), "wide": 3,
-           "paper": ("odd", (0, 1))}
+           "paper": ("odd", (0, 1)), "word": rng.choice(("point", "tie")), "postings": ((0, 1), (None, 2), (1, None)),
+           "columns": 2, "holes": ((0, 1), (1, 1), (0, 0)), "loose": (("row", 1), ("column", 0))}
     if names == ["points", "ties"]:
         fit.update(points=web.points, ties=web.ties)
-    if names == ["points"]:
+    if names == ["points", "ties"] and rng.random() < 0.5:
+        fit.update(points=3, ties=((0, 1), (2,)))
+    if names == ["points"] or "postings" in names:
         fit["points"] = 3
+    if "holes" in names:
+        fit.update(rows=2, prices=(3, 1, 2))
     if names == ["web", "totals", "read"] and rng.random() < 0.5:
         fit["read"] = (1,) * len(web.ties)
     if names[1:] == ["one", "other", "tie"]:
@@ -181,7 +199,9 @@ class InterfaceTest(unittest.TestCase):
                     box = filled_box(random.Random(2), web, 3)
                     fitting = {"web": web, "box": box, "point": 0, "tie": 0, "side": 1, "block": (1,), "which": 2,
                                "lot": (1,), "totals": box.totals, "prices": (1,) * len(web.ties),
-                               "signs": (1,) * web.points}
+                               "signs": (1,) * web.points, "weights": (2,) * len(web.ties), "word": "tie", "number": 1}
+                    if "holes" in parameters:
+                        fitting = {"rows": 1, "columns": 2, "holes": ((0, 1),), "prices": (3,)}
                     given = {part: fitting.get(part, value) for part in parameters}
                     try:
                         self.assertIn(told(module, name)(**given), (True, False))
