@@ -4,7 +4,9 @@ import itertools
 import random
 
 from pushtells.boxes import Box
+from pushtells.desk import Desk
 from pushtells.errors import InvalidBox, InvalidLot, InvalidPoint, InvalidSide, InvalidSigns, InvalidTie, InvalidWeb
+from pushtells.sheet import Sheet
 from pushtells.webs import Web
 
 SIGNS = (1, -1)
@@ -30,7 +32,8 @@ JUNK = [None, True, False, -1, 0, 1, 2, 10 ** 30, -10 ** 3999, "", "even", "yes"
         ("full", ()), ("full", ((0, 1, 2),)), ("full", None), ("bare", None), ("bare", "0"), ((), ()),
         (((0, 1, 0, 0),), ()), (((0, 1, 0),), ()), ((), ((0, 0),)), (0, ()), (0, None), ("end", (), ()),
         ("end", None, None), ("nothing", None), ("nothing", ()), Web(1, []), (Web(1, []), Web(2, [])),
-        Box(Web(1, []), [], [0]), (Box(Web(1, []), [], [0]),) * 3, InvalidWeb(3), nested(3), nested(12),
+        Box(Web(1, []), [], [0]), (Box(Web(1, []), [], [0]),) * 3, Sheet(), Desk(), [Sheet()], (Desk(), 0),
+        InvalidWeb(3), nested(3), nested(12),
         [[[[[[[[[[[[0]]]]]]]]]]]], ((((((((((((1,),),),),),),),),),),),)]
 NO_SEQUENCES = [None, True, 3, "", "01", Web(1, []), 10 ** 30]
 NO_INTEGERS = [None, True, False, "1", (), [1], (1,), Web(1, []), InvalidWeb(0)]

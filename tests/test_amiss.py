@@ -117,7 +117,8 @@ class WideningTest(unittest.TestCase):
         self.assertEqual(least_widening(RING, HALF, (0, 0)), (0, 1))
         self.assertEqual(widening_paper(RING, HALF, (5, 5)), ("least", 0, 1, (0, 0), (2, 0)))
         self.assertIs(widening_holds(RING, HALF, (5, 5), ("least", 0, 1, (0, 0), (2, 0))), True)
-        for p, q, signs in ((0, 2, (0, 0)), (0, 1, (1, 0)), (0, 1, (1, 1)), (0, 1, (0, 1)), (1, 1, (0, 0)), (0, 0, (0, 0)),
+        for p, q, signs in ((0, 2, (0, 0)), (0, 1, (1, 0)), (0, 1, (1, 1)), (0, 1, (0, 1)), (1, 1, (0, 0)), (0, 0, (0,
+                                                                                                                    0)),
                             (0, -1, (0, 0)), (-1, 1, (0, 0)), (False, 1, (0, 0)), (0, True, (0, 0))):
             self.assertIs(widening_holds(RING, HALF, (0, 5), ("least", p, q, signs, (2 * q, 0))), False)
 
@@ -125,8 +126,10 @@ class WideningTest(unittest.TestCase):
         box = Box(SPOKE, [(0, 1), (0, 2)], [4])
         self.assertIs(widening_holds(SPOKE, box, (1, 1), ("least", 2, 4, (1,), (12, 20))), False)
         self.assertIs(widening_holds(SPOKE, box, (1, 1), ("least", -1, -2, (1,), (-6, -10))), False)
-        self.assertIs(narrowing_holds(SPOKE, Box(SPOKE, [(0, 1), (0, 4)], [2]), (1, 1), (1, 2, ("tie", 0), (2, 6))), True)
-        self.assertIs(narrowing_holds(SPOKE, Box(SPOKE, [(0, 1), (0, 4)], [2]), (1, 1), (2, 4, ("tie", 0), (4, 12))), False)
+        self.assertIs(narrowing_holds(SPOKE, Box(SPOKE, [(0, 1), (0, 4)], [2]), (1, 1), (1, 2, ("tie", 0), (2, 6))),
+                      True)
+        self.assertIs(narrowing_holds(SPOKE, Box(SPOKE, [(0, 1), (0, 4)], [2]), (1, 1), (2, 4, ("tie", 0), (4, 12))),
+                      False)
 
     def test_no_fraction_is_below_0(self):
         """Narrowed is not widened by less than nothing, nor the other way about."""
@@ -178,8 +181,10 @@ class WideningTest(unittest.TestCase):
             paper = widening_paper(web, box, weights)
             others = spoiled_sample(paper, at, 60)
             for value in others + [("never", paper[-1]), ("least", *(paper + (1, 2))[1:5])]:
-                self.assertIs(widening_holds(web, box, weights, value), widening_by_hand(web, box, weights, value), value)
-        for value in JUNK + [("never", value) for value in JUNK] + [("least", 1, 1, value, (4, 4)) for value in JUNK] + \
+                self.assertIs(widening_holds(web, box, weights, value), widening_by_hand(web, box, weights, value),
+                              value)
+        for value in JUNK + [("never", value) for value in JUNK] + [("least", 1, 1, value, (4,
+                                                                                            4)) for value in JUNK] + \
                 [("least", value, 1, (1, 0), (4, 4)) for value in JUNK] + [("least", 1, 1, (1, 0), x) for x in JUNK]:
             self.assertIs(widening_holds(RING, OFF, (1, 1), value), widening_by_hand(RING, OFF, (1, 1), value), value)
 
@@ -256,7 +261,8 @@ class NarrowingTest(unittest.TestCase):
             for p, q in ((0, 1), (1, 1), (1, 2), (1, 4), (2, 3), (0, 2)):
                 moved = moved_box(web, box, weights, -p, q)
                 row = fill_paper(web, moved)[1] if moved is not None else (0,) * len(web.ties)
-                for why in [("signs", signs) for signs in all_signs(web)] + [("tie", t) for t in range(-1, len(web.ties) + 1)]:
+                for why in [("signs", signs) for signs in all_signs(web)] + [("tie", t) for t in range(-1,
+                                                                                                       len(web.ties) + 1)]:
                     value = (p, q, why, row)
                     self.assertIs(narrowing_holds(web, box, weights, value),
                                   narrowing_by_hand(web, box, weights, value), value)
@@ -270,10 +276,12 @@ class NarrowingTest(unittest.TestCase):
                 self.assertIs(narrowing_holds(web, box, weights, value),
                               narrowing_by_hand(web, box, weights, value), value)
         box = Box(SPOKE, [(0, 1), (0, 1)], [1])
-        for value in JUNK + [(1, 2, value, (2, 2)) for value in JUNK] + [(1, 2, ("tie", value), (2, 2)) for value in JUNK] + \
+        for value in JUNK + [(1, 2, value, (2, 2)) for value in JUNK] + [(1, 2, ("tie", value), (2,
+                                                                                                 2)) for value in JUNK] + \
                 [(1, 2, ("signs", value), (2, 2)) for value in JUNK] + [(1, 2, ("tie", 0), value) for value in JUNK] + \
                 [(value, 2, ("tie", 0), (2, 2)) for value in JUNK] + [(1, value, ("tie", 0), (2, 2)) for value in JUNK]:
-            self.assertIs(narrowing_holds(SPOKE, box, (1, 1), value), narrowing_by_hand(SPOKE, box, (1, 1), value), value)
+            self.assertIs(narrowing_holds(SPOKE, box, (1, 1), value), narrowing_by_hand(SPOKE, box, (1, 1), value),
+                          value)
 
     def test_great_numbers(self):
         rng = random.Random(78)

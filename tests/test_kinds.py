@@ -6,7 +6,8 @@ import unittest
 
 from pushtells.courts import court2
 from pushtells.errors import InvalidSize, InvalidTies
-from pushtells.kinds import (accounts_web, alike_web, even_turning, fullest_alike, fullest_plain, most_alike, most_plain,
+from pushtells.kinds import (accounts_web, alike_web, even_turning, fullest_alike, fullest_plain, most_alike,
+                             most_plain,
                              odd_turning)
 from pushtells.pieces import court1
 from pushtells.webs import Web, tie_kind, turned
@@ -58,7 +59,8 @@ class MadeTest(unittest.TestCase):
     def test_errors(self):
         odd = [value for value in NO_SEQUENCES + [[], (), (0, 0), (0, 1, 1), (0, 3), (-1, 0), (0, True), (True,), (3,),
                                                   ("0", 1), (0, (1,)), (0, False), [[0], [1]], (None, None, 0)]]
-        for call, fit, more in ((accounts_web, (0, 1), [(None, None), (None, 3), (0,), (None,), (-1, None), (True, None)]),
+        for call, fit, more in ((accounts_web, (0, 1), [(None, None), (None, 3), (0,), (None,), (-1, None), (True,
+                                                                                                             None)]),
                                 (alike_web, (0,), [(None, 0), (0, None), (None,)])):
             ties = [(value, error(InvalidTies, at=-1)) for value in NO_SEQUENCES + [[fit] * 3001, (None,) * 3001]]
             for wrong in odd + more:

@@ -20,7 +20,7 @@ NODES = (ast.Module, ast.FunctionDef, ast.ClassDef, ast.arguments, ast.arg, ast.
          ast.If, ast.While, ast.For, ast.Return, ast.Break, ast.Continue, ast.Pass, ast.Raise, ast.ImportFrom,
          ast.alias, ast.Constant, ast.Name, ast.Attribute, ast.Subscript, ast.Slice, ast.Call, ast.keyword, ast.List,
          ast.Tuple, ast.Dict, ast.Set, ast.ListComp, ast.SetComp, ast.DictComp, ast.comprehension, ast.BinOp,
-         ast.UnaryOp, ast.BoolOp, ast.Compare, ast.IfExp, ast.Starred, ast.expr_context, ast.operator, ast.unaryop,
+         ast.JoinedStr, ast.FormattedValue, ast.UnaryOp, ast.BoolOp, ast.Compare, ast.IfExp, ast.Starred, ast.expr_context, ast.operator, ast.unaryop,
          ast.boolop, ast.cmpop)
 BARRED = set("""mro elements open input law version_info with_traceback add_note register attrgetter breakpoint builtins
 compile copyright credits delattr dir eval exec exit gc getattr globals hasattr help id importlib license locals
@@ -161,7 +161,9 @@ class LanguageTest(unittest.TestCase):
     def test_methods_of_values(self):
         for name, node in nodes(ast.Call):
             if isinstance(node.func, ast.Attribute):
-                self.assertIn(node.func.attr, METHODS, (name, node.lineno))
+                own = {part.name for _, kind in nodes(ast.ClassDef) for part in kind.body
+                       if isinstance(part, ast.FunctionDef)}
+                self.assertIn(node.func.attr, METHODS | own, (name, node.lineno))
                 self.assertFalse(node.keywords, (name, node.lineno))
 
     def test_exponents_and_strings(self):

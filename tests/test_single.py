@@ -203,7 +203,8 @@ class SingleTest(unittest.TestCase):
         for junk in JUNK:
             for value in [junk, ("never", junk)] + [fit[:at] + (junk,) + fit[at + 1:] for at in range(6)] + \
                     [fit[:5] + ((junk, (2, 2)),), fit[:5] + (((0, 0), junk),), fit[:5] + (((0, 0), (2, 2), junk),)]:
-                self.assertIs(single_holds(RING, OFF, "point", 0, value), single_by_hand(RING, OFF, "point", 0, value), value)
+                self.assertIs(single_holds(RING, OFF, "point", 0, value), single_by_hand(RING, OFF, "point", 0, value),
+                              value)
 
     def test_great_numbers(self):
         rng = random.Random(97)

@@ -60,7 +60,8 @@ def no_tables():
     holes = [(value, error(InvalidHoles, at=-1)) for value in NO_SEQUENCES + [[(0, 0)] * 3001, (None,) * 3001]]
     for bad in NO_SEQUENCES + [(), (0,), (0, 0, 0), (3, 0), (0, 4), (-1, 0), (0, -1), (True, 0), (0, False), ("0", 1),
                                (0, None), ((0, 1), 2), (0, 1), [0, 1]]:
-        holes += [([(0, 1), bad, None], error(InvalidHoles, at=1)), (((2, 3), (0, 1), (1, 1), bad), error(InvalidHoles, at=3))]
+        holes += [([(0, 1), bad, None], error(InvalidHoles, at=1)), (((2, 3), (0, 1), (1, 1), bad), error(InvalidHoles,
+                                                                                                          at=3))]
     return [rows, columns, holes]
 
 
@@ -159,7 +160,8 @@ class ReadTest(unittest.TestCase):
     def test_all_lots(self):
         rng = random.Random(113)
         seen = {0: 0, 1: 0, 2: 0}
-        for rows, columns, holes in list(random_tables(114, 80, 9, 3)) + [(3, 3, cells(3, 3)[at:]) for at in range(4)] * 2:
+        for rows, columns, holes in list(random_tables(114, 80, 9, 3)) + [(3, 3, cells(3,
+                                                                                       3)[at:]) for at in range(4)] * 2:
             lots = trusted_lots(rows, columns, holes)
             fewest = min(len(lot) for lot in lots)
             self.assertEqual(fewest_read(rows, columns, holes), fewest)
@@ -176,7 +178,8 @@ class ReadTest(unittest.TestCase):
                         right = lot in lots and price_of(prices, lot) == least
                         self.assertIs(read_holds(rows, columns, holes, prices, lot), right)
                 for lot in lots:
-                    self.assertEqual(price_of(prices, lot) == least, self.needs_no_change(lots, len(holes), prices, lot))
+                    self.assertEqual(price_of(prices, lot) == least, self.needs_no_change(lots, len(holes), prices,
+                                                                                          lot))
         self.assertTrue(min(seen.values()) > 5, seen)
 
     def needs_no_change(self, lots, many, prices, lot):
