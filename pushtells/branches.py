@@ -12,7 +12,7 @@ SIGNED = "signed"
 
 def tree_count(points):
     """How many trees there are."""
-    return 1 if points < 3 else power(points, points - 2)
+    return power(points, max(points - 2, 0))
 
 
 def power(base, many):
@@ -177,8 +177,7 @@ def component_number(kind, court, points, pairs, signs, loose):
     told = [0 if sign == 1 else 1 for pair, sign in zip(pairs, signs) if pair in free]
     rest = digits_number(2, told) if kind == SIGNED else 0
     if not ring:
-        if court == 3:
-            rest = rest * loose_count(court, points) + digits_number(2, [int(at in loose) for at in range(points)])
+        rest = rest * loose_count(court, points) + digits_number(2, [int(at in loose) for at in range(points)])
         # The last neighbour is always the greatest point.
         row = struck_row(points, [points - 1], pairs)[:-1]
         return digits_number(points, row) * sign_count(kind, points) * loose_count(court, points) + rest
@@ -209,7 +208,7 @@ def ring_of(points, pairs):
             ends.append(neighbour)
     begin = [at for at in range(points) if beside[at]][0]
     ring = [begin, min(beside[begin])]
-    while len(ring) < 3 or ring[-1] != begin:
+    while ring[-1] != begin:
         first, second = beside[ring[-1]]
         ring.append(second if first == ring[-2] else first)
     return tuple(ring[:-1])

@@ -33,7 +33,8 @@ def uppers_by(web, box, marks):
         moves = upper_moves(stars, box.totals, uppers, due)
         if not moves:
             return uppers
-        uppers.update(moves)
+        for side, told in moves.items():
+            uppers[side] = told
         if any([is_crossed(uppers, tie) for tie, _ in moves]):
             return None
         due = [point for point in moved_points(web.ties, moves) if point in looked]

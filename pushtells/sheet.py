@@ -150,9 +150,14 @@ def news_between(before, behind, watched):
     """(tie, before, behind) of the watched ties whose stretch is another one."""
     if not watched:
         return ()
-    old, new = [{tie: told for tie, told in all_stretches(stand.points, stand.ties)} for stand in (before, behind)]
-    told = [(tie, old[tie], new.get(tie, ())) for tie in watched]
-    return tuple([row for row in told if row[1] != row[2]])
+    old, new = stretches_by_tie(before), stretches_by_tie(behind)
+    rows = [(tie, old[tie], new.get(tie, ())) for tie in watched]
+    return tuple([row for row in rows if row[1] != row[2]])
+
+
+def stretches_by_tie(stand):
+    """{tie: stretch} of all ties of a moment."""
+    return {tie: stretch for tie, stretch in all_stretches(stand.points, stand.ties)}
 
 
 def lot_word(part):

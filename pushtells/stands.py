@@ -121,7 +121,7 @@ def set_bounds(stand, deed):
     return with_tie(stand, (row[0], row[1], deed[2], deed[3]))
 
 
-def cut_bounds(stand, deed):
+def cut_tie(stand, deed):
     row = tie_row(stand, deed[1])
     least, greatest = max(row[2], deed[2]), min(row[3], deed[3])
     if least > greatest:
@@ -175,7 +175,7 @@ DOERS = {
     "point": come_point,
     "tie": come_tie,
     "bounds": set_bounds,
-    "cut": cut_bounds,
+    "cut": cut_tie,
     "total": set_total,
     "shift": shift_tie,
     "turn": turn_point,

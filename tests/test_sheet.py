@@ -169,6 +169,7 @@ class DeedTest(unittest.TestCase):
             ("tie", (True, 1), 0, 1), ("tie", (0, 1, None, 1), 0, 1), ("tie", 0, 0, 1), ("tie", (), 0, 1), ("tie",
                                                                                                             None, 0, 1),
             ("tie", (0, 1), -TOP - 1, 0), ("tie", (0, 1), 0, TOP + 1), ("tie", (0, 1), False, 1), ("tie", "0+", 0, 1),
+            ("tie", (0, 1, 1, 2), 0, 1), ("tie", (0, 1, 1, 0), 0, 1), ("tie", (0, 1, 1, True), 0, 1),
             ("bounds", 0, 1), ("bounds", -1, 0, 1), ("bounds", 0, 1, 0), ("bounds", 0, 0, TOP + 1), ("bounds", True, 0,
                                                                                                      1),
             ("cut", 0, 1, 0), ("cut", -1, 0, 1), ("cut", 0, "0", 1), ("cut", 0), ("total", 0), ("total", -1, 0),
@@ -204,6 +205,18 @@ class DeedTest(unittest.TestCase):
             if word:
                 self.assertEqual(raised(sheet.do_deed, deed), told)
         self.assertEqual(whole_state(sheet), state)
+
+    def test_shifts_to_the_limit(self):
+        """Each of the bounds and the totals may be at it, and none beyond."""
+        for least, greatest, sign, total, most, fewest in ((0, 5, 1, 0, TOP - 5, -TOP), (-5, 0, 1, 0, TOP, 5 - TOP),
+                                                           (0, 0, -1, -7, TOP - 7, -TOP), (0, 0, 1, 7, TOP - 7, -TOP),
+                                                           (0, 0, -1, 7, TOP, 7 - TOP), (0, 0, 1, -7, TOP, 7 - TOP)):
+            sheet = sheet_of([("point", total), ("tie", (0, sign), least, greatest)])
+            for amount in (most, fewest):
+                self.assertEqual(sheet.news_if(("shift", 0, amount)), (None, ()))
+            for amount in (most + 1, fewest - 1):
+                if abs(amount) <= TOP:
+                    self.assertEqual(raised(sheet.do_deed, ("shift", 0, amount)), error(Refused, at="size"))
 
     def test_full_sheets(self):
         sheet = sheet_of([("point", 0)] * 24)
@@ -607,10 +620,17 @@ class TextTest(unittest.TestCase):
         wrong[2] += [f"point {word} 0" for word in NO_NUMBERS] + [f"point 3 {word}" for word in NO_NUMBERS]
         for start in ("tie {} 3 + 0 9", "tie 2 {} + 0 9", "tie 2 1 + {} + 0 9", "tie 2 3 + {} 9", "tie 2 3 + -9 {}"):
             wrong[4] += [start.format(word) for word in NO_NUMBERS]
-        for at, rows in wrong.items():
-            for row in rows:
-                self.assertEqual(raised(read_sheet, "\n".join(fit[:at] + [row] + ["?"] * 2)), error(InvalidText,
-                                                                                                    at=at), row)
+        for at, row in [(at, row) for at, rows in wrong.items() for row in rows]:
+            text = "\n".join(fit[:at] + [row] + ["?"] * 2)
+            self.assertEqual(raised(read_sheet, text), error(InvalidText, at=at), row)
+        for more in (3, 2):
+            text = "\n".join(fit[:3] + [f"point {more} 0"])
+            self.assertEqual(raised(read_sheet, text), error(InvalidText, at=3))
+            text = "\n".join(["sheet 5 9"] + fit[1:] + [f"tie {more - 1} 3 + 0 9"])
+            self.assertEqual(raised(read_sheet, text), error(InvalidText, at=5))
+        self.assertEqual(len(read_sheet("\n".join(["sheet 5 9"] + fit[1:] + ["tie 3 3 + 0 9"])).ties), 3)
+
+    def test_too_much(self):
         full = ["sheet 24 48"] + [f"point {at} 0" for at in range(24)] + [f"tie {at} 0 + 0 1" for at in range(48)]
         self.assertEqual(len(read_sheet("\n".join(full)).ties), 48)
         more = ["sheet 25 49"] + full[1:25] + ["point 24 0"] + full[25:]
