@@ -159,10 +159,9 @@ class LanguageTest(unittest.TestCase):
                     self.assertIsInstance(node.ctx, ast.Store)
 
     def test_methods_of_values(self):
+        own = {part.name for _, kind in nodes(ast.ClassDef) for part in kind.body if isinstance(part, ast.FunctionDef)}
         for name, node in nodes(ast.Call):
             if isinstance(node.func, ast.Attribute):
-                own = {part.name for _, kind in nodes(ast.ClassDef) for part in kind.body
-                       if isinstance(part, ast.FunctionDef)}
                 self.assertIn(node.func.attr, METHODS | own, (name, node.lineno))
                 self.assertFalse(node.keywords, (name, node.lineno))
 
